@@ -9,28 +9,28 @@ import (
 	"tenure/house"
 )
 
-// model is the house as the document tells it, written a second time and otherwise: every chunk has a number and an owner.
+// model is the house as the document tells it, written a second time and otherwise: every chunk has an owner, a stretch is
+// a row of cells, and what is below a slot is found by going up from all others.
 type model struct {
-	slots, chunks int
-	tenants       []*modelTenant
+	tenants []*modelTenant
 }
 
 type modelTenant struct {
-	last   []int          // of each slot its last generation, -1 for none
-	held   map[int]*piece // by the slot's number
-	owners []*piece       // of each chunk
+	last   []int         // of each slot its last generation, -1 for none
+	held   map[int]*hold // by the slot's number
+	owners []*hold       // of each chunk
 }
 
-type piece struct {
-	chunks []int
-	size   int
-	bytes  map[int]byte
+type hold struct {
+	from   *hold   // nil, if it is a root
+	cells  []*byte // the bytes of the stretch
+	rights int
 }
 
 func newModel(c api.Config) *model {
-	m := &model{slots: c.Slots, chunks: c.Chunks}
+	m := &model{}
 	for range c.Tenants {
-		t := &modelTenant{held: map[int]*piece{}, owners: make([]*piece, c.Chunks)}
+		t := &modelTenant{held: map[int]*hold{}, owners: make([]*hold, c.Chunks)}
 		for range c.Slots {
 			t.last = append(t.last, -1)
 		}
@@ -41,68 +41,116 @@ func newModel(c api.Config) *model {
 
 func (t *modelTenant) view() api.View {
 	v := api.View{Slots: len(t.held)}
-	for _, p := range t.owners {
-		if p != nil {
+	for _, x := range t.owners {
+		if x != nil {
 			v.Chunks++
 		}
 	}
 	return v
 }
 
-func (t *modelTenant) alloc(size int) string {
-	p := &piece{size: size, bytes: map[int]byte{}}
-	if size == 0 || size > 256 {
-		return errRange
-	}
-	for i, owner := range t.owners {
-		if owner == nil && 8*len(p.chunks) < size {
-			p.chunks = append(p.chunks, i)
-		}
-	}
-	if 8*len(p.chunks) < size {
-		return errRoom
-	}
+func (t *modelTenant) lay(x *hold) string {
 	for number, generation := range t.last {
 		if t.held[number] == nil && generation < 4095 {
 			t.last[number]++
-			t.held[number] = p
-			for _, i := range p.chunks {
-				t.owners[i] = p
-			}
+			t.held[number] = x
 			return done + two(t.last[number]<<4|number)
 		}
 	}
 	return errFull
 }
 
-func (t *modelTenant) free(number int) string {
-	for _, i := range t.held[number].chunks {
-		t.owners[i] = nil
+func (t *modelTenant) alloc(size int) string {
+	if size == 0 || size > 256 {
+		return errRange
 	}
-	delete(t.held, number)
+	var chunks []int
+	for i, owner := range t.owners {
+		if owner == nil && 8*len(chunks) < size {
+			chunks = append(chunks, i)
+		}
+	}
+	if 8*len(chunks) < size {
+		return errRoom
+	}
+	x := &hold{rights: 7}
+	for range size {
+		x.cells = append(x.cells, new(byte))
+	}
+	reply := t.lay(x)
+	if reply != errFull {
+		for _, i := range chunks {
+			t.owners[i] = x
+		}
+	}
+	return reply
+}
+
+func (x *hold) isBelow(y *hold) bool {
+	for x != nil && x.from != y {
+		x = x.from
+	}
+	return x != nil
+}
+
+// empty takes out what is below a holding, and the holding itself too, if it is asked for.
+func (m *model) empty(y *hold, itself bool) string {
+	for _, t := range m.tenants {
+		for number, x := range t.held {
+			if x.isBelow(y) || itself && x == y {
+				delete(t.held, number)
+			}
+		}
+		for i, x := range t.owners {
+			if itself && x == y {
+				t.owners[i] = nil
+			}
+		}
+	}
 	return done
 }
 
-func (p *piece) read(off, length int) string {
-	if length > 64 || off+length > p.size {
+func (x *hold) read(off, length int) string {
+	switch {
+	case x.rights%2 == 0:
+		return errRights
+	case length > 64 || off+length > len(x.cells):
 		return errRange
 	}
 	var b strings.Builder
 	b.WriteString(done)
-	for i := off; i < off+length; i++ {
-		b.WriteByte(p.bytes[i])
+	for _, cell := range x.cells[off : off+length] {
+		b.WriteByte(*cell)
 	}
 	return b.String()
 }
 
-func (p *piece) write(off int, data string) string {
-	if off+len(data) > p.size {
+func (x *hold) write(off int, data string) string {
+	switch {
+	case x.rights/2%2 == 0:
+		return errRights
+	case off+len(data) > len(x.cells):
 		return errRange
 	}
 	for i := range len(data) {
-		p.bytes[off+i] = data[i]
+		*x.cells[off+i] = data[i]
 	}
 	return done
+}
+
+func (t *modelTenant) derive(x *hold, off, length, rights int) string {
+	if x.rights < 4 {
+		return errRights
+	}
+	for bit := 1; bit < 256; bit *= 2 {
+		if rights/bit%2 > x.rights/bit%2 {
+			return errRights
+		}
+	}
+	if off+length > len(x.cells) {
+		return errRange
+	}
+	return t.lay(&hold{from: x, cells: x.cells[off : off+length], rights: rights})
 }
 
 func twoAt(s string, at int) int { return int(s[at])<<8 | int(s[at+1]) }
@@ -117,21 +165,28 @@ func (m *model) ask(tenant int, s string) string {
 		return t.alloc(twoAt(s, 1))
 	}
 	number := twoAt(s, 1) & 15
-	p := t.held[number]
-	if p == nil || t.last[number] != twoAt(s, 1)>>4 {
+	x := t.held[number]
+	if x == nil || t.last[number] != twoAt(s, 1)>>4 {
 		return errStale
 	}
 	switch s[0] {
-	case 2:
-		return t.free(number)
 	case 3:
-		return p.read(twoAt(s, 3), twoAt(s, 5))
+		return x.read(twoAt(s, 3), twoAt(s, 5))
 	case 4:
-		return p.write(twoAt(s, 3), s[5:])
+		return x.write(twoAt(s, 3), s[5:])
+	case 5:
+		return t.derive(x, twoAt(s, 3), twoAt(s, 5), int(s[7]))
+	case 6:
+		return errForm // Grant is not served yet, and changes nothing.
+	case 7:
+		return m.empty(x, false)
 	case 9:
-		return done + two(p.size) + allRights
+		return done + two(len(x.cells)) + string([]byte{byte(x.rights)})
 	}
-	return errForm // Derive, Grant, Revoke and Drop are not served yet, and change nothing.
+	if isFree := s[0] == 2; isFree != (x.from == nil) {
+		return errRoot
+	}
+	return m.empty(x, true)
 }
 
 type pair struct {
@@ -141,21 +196,41 @@ type pair struct {
 
 func (p pair) check(t *testing.T, tenant int, request string) {
 	t.Helper()
-	wantReply(t, "P6 to P10, P14", p.h, tenant, request, p.m.ask(tenant, request))
+	wantReply(t, "P6 to P11, P13, P14", p.h, tenant, request, p.m.ask(tenant, request))
 	for i, x := range p.m.tenants {
 		wantView(t, p.h, i, x.view().Slots, x.view().Chunks)
 	}
 }
 
-// checkAll compares every byte that any tenant holds.
+// pass gives on what a tenant holds, without a request: so that what is below a slot lies with other tenants too.
+func (p pair) pass(t *testing.T, r *rand.Rand) {
+	t.Helper()
+	tenant, to := r.Intn(len(p.m.tenants)), r.Intn(len(p.m.tenants))
+	number := r.Intn(len(p.m.tenants[tenant].last))
+	x := p.m.tenants[tenant].held[number]
+	if x == nil {
+		return
+	}
+	handle := 16*p.m.tenants[tenant].last[number] + number
+	passed, laid := p.h.Pass(tenant, handle, to, 0, len(x.cells), x.rights)
+	want := p.m.tenants[to].lay(&hold{from: x, cells: x.cells, rights: x.rights})
+	if laid != (want != errFull) || laid && want != done+two(passed) {
+		t.Fatalf("%d of tenant %d was passed to %d: %d, %v; want % x", handle, tenant, to, passed, laid, want)
+	}
+}
+
+// checkAll compares all that any tenant holds, and every byte of it.
 func (p pair) checkAll(t *testing.T) {
 	t.Helper()
 	for tenant, x := range p.m.tenants {
-		for number, held := range x.held {
+		for number := range x.last {
 			handle := 16*x.last[number] + number
 			p.check(t, tenant, info(handle))
-			for off := 0; off < held.size; off += 64 {
-				p.check(t, tenant, read(handle, off, min(64, held.size-off)))
+			for off := 0; off <= 256; off += 16 {
+				p.check(t, tenant, read(handle, off, 16))
+			}
+			for off := 0; x.held[number] != nil && off < len(x.held[number].cells); off++ {
+				p.check(t, tenant, read(handle, off, 1))
 			}
 		}
 	}
@@ -193,28 +268,52 @@ func anyBytes(r *rand.Rand, n int) string {
 	return string(b)
 }
 
+// anyDerive is mostly one that is granted, or one just beside it.
+func anyDerive(r *rand.Rand, t *modelTenant, handle int) string {
+	x := t.held[handle%16]
+	if x == nil || r.Intn(8) == 0 {
+		return derive(handle, anyNumber(r), anyNumber(r), r.Intn(256))
+	}
+	off := r.Intn(len(x.cells)/2 + 2)
+	length := max(0, len(x.cells)-off-r.Intn(4)+r.Intn(2))
+	rights := x.rights
+	if r.Intn(2) == 0 {
+		rights &= r.Intn(8)
+	}
+	if r.Intn(6) == 0 {
+		rights |= 1 << r.Intn(8)
+	}
+	return derive(handle, off, length, rights)
+}
+
 func anyRequest(r *rand.Rand, t *modelTenant) string {
 	handle := anyHandle(r, t)
-	switch r.Intn(16) {
+	switch r.Intn(24) {
 	case 0, 1, 2, 3:
 		return alloc(anyNumber(r))
-	case 4, 5:
+	case 4:
 		return free(handle)
-	case 6, 7, 8:
+	case 5, 6, 7:
 		return read(handle, anyNumber(r), anyNumber(r))
-	case 9, 10, 11:
+	case 8, 9, 10:
 		return write(handle, anyNumber(r), anyBytes(r, r.Intn(67)))
-	case 12:
+	case 11, 12, 13, 14, 15, 16:
+		return anyDerive(r, t, handle)
+	case 17, 18:
+		return drop(handle)
+	case 19:
+		return revoke(handle)
+	case 20:
 		return info(handle)
-	case 13:
+	case 21:
 		return anyBytes(r, r.Intn(80))
-	case 14:
+	case 22:
 		return string([]byte{byte(r.Intn(11))}) + anyBytes(r, r.Intn(9))
 	}
 	return string([]byte{byte(5 + r.Intn(4))}) + two(handle) + anyBytes(r, r.Intn(6))
 }
 
-// P1, P2, P6 to P10, P14, P15: whatever is asked, in any order, of several houses in turn, of which none shows in another.
+// P1, P2, P6 to P11, P13 to P15: whatever is asked, in any order, of several houses in turn, of which none shows in another.
 func TestAnyRequestsInAnyOrder(t *testing.T) {
 	r := rand.New(rand.NewSource(3))
 	for range 300 {
@@ -227,10 +326,48 @@ func TestAnyRequestsInAnyOrder(t *testing.T) {
 			p := houses[r.Intn(3)]
 			tenant := r.Intn(len(p.m.tenants))
 			p.check(t, tenant, anyRequest(r, p.m.tenants[tenant]))
+			if r.Intn(12) == 0 {
+				p.pass(t, r)
+			}
 		}
 		for _, p := range houses {
 			p.checkAll(t)
 		}
+	}
+}
+
+// age uses every slot of a tenant so many times.
+func (p pair) age(t *testing.T, tenant, uses int) {
+	t.Helper()
+	last := p.m.tenants[tenant].last
+	for number := range last {
+		for generation := range uses {
+			last[number] = generation
+			wantReply(t, "P7", p.h, tenant, alloc(1), done+two(16*generation+number))
+			if generation < uses-1 {
+				wantReply(t, "P8", p.h, tenant, free(16*generation+number), done)
+			}
+		}
+	}
+	for number := range last {
+		wantReply(t, "P8", p.h, tenant, free(16*last[number]+number), done)
+	}
+}
+
+// The same, while one slot after the other is used up.
+func TestAnyRequestsWhileSlotsAreUsedUp(t *testing.T) {
+	r := rand.New(rand.NewSource(4))
+	for range 12 {
+		c := api.Config{Tenants: 1 + r.Intn(2), Slots: 1 + r.Intn(4), Chunks: 4}
+		p := pair{open(t, c.Tenants, c.Slots, c.Chunks), newModel(c)}
+		for tenant := range c.Tenants {
+			p.age(t, tenant, 4080+r.Intn(16))
+		}
+		for range 2000 {
+			tenant := r.Intn(c.Tenants)
+			p.check(t, tenant, anyRequest(r, p.m.tenants[tenant]))
+		}
+		p.checkAll(t)
 	}
 }
 
@@ -248,6 +385,14 @@ func TestHousesDoNotTouch(t *testing.T) {
 	second.check(t, 0, read(0, 0, 64))
 	second.check(t, 0, write(0, 0, pattern(7, 64)))
 	first.check(t, 0, free(2))
+	first.check(t, 0, derive(0, 4, 8, 7))
+	second.check(t, 0, derive(0, 8, 16, 7))
+	second.check(t, 0, derive(1, 0, 8, 1))
+	first.check(t, 0, revoke(0))
+	first.check(t, 0, drop(1))
+	first.checkAll(t)
+	second.checkAll(t)
+	second.check(t, 0, drop(1))
 	first.checkAll(t)
 	second.checkAll(t)
 }

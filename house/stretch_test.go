@@ -10,6 +10,7 @@ import (
 
 // What P8, P9, P10 and P14 say of stretches, of rights and of what lies below a slot.
 
+// pass stands for a grant where something has to lie with another tenant.
 func pass(t *testing.T, h *house.House, tenant, handle, to, off, length, rights int) int {
 	t.Helper()
 	passed, laid := h.Pass(tenant, handle, to, off, length, rights)
@@ -19,27 +20,27 @@ func pass(t *testing.T, h *house.House, tenant, handle, to, off, length, rights 
 	return passed
 }
 
-// Tenant 1 has four bytes out of the midst of tenant 0's ten, with every sum of rights.
+// By the handle 1 four bytes are held out of the midst of ten, with every sum of rights.
 func TestEveryRights(t *testing.T) {
 	for rights := range 8 {
-		h := open(t, 2, 2, 2)
+		h := open(t, 1, 2, 2)
 		wantReply(t, "P7", h, 0, alloc(10), done+two(0))
 		fill(t, h, 0, 0, "0123456789")
-		pass(t, h, 0, 0, 1, 3, 4, rights)
-		wantReply(t, "P14", h, 1, info(0), "\x00\x00\x04"+string([]byte{byte(rights)}))
+		wantReply(t, "P11", h, 0, derive(0, 3, 4, rights), done+two(1))
+		wantReply(t, "P14", h, 0, info(1), "\x00\x00\x04"+string([]byte{byte(rights)}))
 		reads := map[string]string{
-			read(0, 0, 4): done + "3456", read(0, 3, 1): done + "6", read(0, 4, 0): done, read(0, 0, 0): done,
-			read(0, 0, 5): errRange, read(0, 4, 1): errRange, read(0, 5, 0): errRange, read(0, 0, 65): errRange, read(0, 65535, 65535): errRange,
+			read(1, 0, 4): done + "3456", read(1, 3, 1): done + "6", read(1, 4, 0): done, read(1, 0, 0): done,
+			read(1, 0, 5): errRange, read(1, 4, 1): errRange, read(1, 5, 0): errRange, read(1, 0, 65): errRange, read(1, 65535, 65535): errRange,
 		}
 		for request, reply := range reads {
-			wantReply(t, "P9", h, 1, request, ifRight(rights&api.MayRead, reply))
+			wantReply(t, "P9", h, 0, request, ifRight(rights&api.MayRead, reply))
 		}
-		for _, request := range []string{write(0, 0, "abcde"), write(0, 3, "ab"), write(0, 4, "a"), write(0, 5, ""), write(0, 65535, "a")} {
-			wantReply(t, "P10", h, 1, request, ifRight(rights&api.MayWrite, errRange))
+		for _, request := range []string{write(1, 0, "abcde"), write(1, 3, "ab"), write(1, 4, "a"), write(1, 5, ""), write(1, 65535, "a")} {
+			wantReply(t, "P10", h, 0, request, ifRight(rights&api.MayWrite, errRange))
 		}
-		wantReply(t, "P10", h, 1, write(0, 4, ""), ifRight(rights&api.MayWrite, done))
+		wantReply(t, "P10", h, 0, write(1, 4, ""), ifRight(rights&api.MayWrite, done))
 		wantBytes(t, "P10", h, 0, 0, "0123456789")
-		wantReply(t, "P10", h, 1, write(0, 0, "abcd"), ifRight(rights&api.MayWrite, done))
+		wantReply(t, "P10", h, 0, write(1, 0, "abcd"), ifRight(rights&api.MayWrite, done))
 		if rights&api.MayWrite == 0 {
 			wantBytes(t, "P10", h, 0, 0, "0123456789")
 		} else {
@@ -58,9 +59,9 @@ func ifRight(right int, reply string) string {
 func TestStretchOfNoBytes(t *testing.T) {
 	h := open(t, 1, 3, 1)
 	wantReply(t, "P7", h, 0, alloc(8), done+two(0))
-	atTheEnd := pass(t, h, 0, 0, 0, 8, 0, 7)
-	atTheStart := pass(t, h, 0, 0, 0, 0, 0, 7)
-	for _, handle := range []int{atTheEnd, atTheStart} {
+	wantReply(t, "P11", h, 0, derive(0, 8, 0, 7), done+two(1))
+	wantReply(t, "P11", h, 0, derive(0, 0, 0, 7), done+two(2))
+	for handle := 1; handle <= 2; handle++ {
 		wantReply(t, "P14", h, 0, info(handle), done+two(0)+allRights)
 		wantReply(t, "P9", h, 0, read(handle, 0, 0), done)
 		wantReply(t, "P9", h, 0, read(handle, 0, 1), errRange)
@@ -77,13 +78,13 @@ func TestStretchOfNoBytes(t *testing.T) {
 func TestFreeOfWhatIsNoRoot(t *testing.T) {
 	h := open(t, 2, 3, 4)
 	wantReply(t, "P7", h, 0, alloc(10), done+two(0))
-	own := pass(t, h, 0, 0, 0, 0, 10, 7)
-	granted := pass(t, h, 0, own, 1, 0, 10, 7)
-	wantReply(t, "P8", h, 0, free(own), errRoot)
+	wantReply(t, "P11", h, 0, derive(0, 0, 10, 7), done+two(1))
+	granted := pass(t, h, 0, 1, 1, 0, 10, 7)
+	wantReply(t, "P8", h, 0, free(1), errRoot)
 	wantReply(t, "P8", h, 1, free(granted), errRoot)
 	wantView(t, h, 0, 2, 2)
 	wantView(t, h, 1, 1, 0)
-	wantReply(t, "P8", h, 0, info(own), done+two(10)+allRights)
+	wantReply(t, "P8", h, 0, info(1), done+two(10)+allRights)
 	wantReply(t, "P8", h, 1, info(granted), done+two(10)+allRights)
 	wantReply(t, "P7", h, 1, alloc(32), done+two(1))
 	wantView(t, h, 1, 2, 4)
@@ -138,20 +139,4 @@ func TestFreeEmptiesTheDeepestRow(t *testing.T) {
 	for tenant := range 4 {
 		wantView(t, h, tenant, 0, 0)
 	}
-}
-
-// Example 6, from where the examples 3 to 5 leave off: the handle 17 comes from the handle 0.
-func TestExampleSix(t *testing.T) {
-	h := open(t, 2, 3, 4)
-	wantReply(t, "P7", h, 0, alloc(10), done+two(0))
-	wantReply(t, "P7", h, 0, alloc(1), done+two(1))
-	wantReply(t, "P8", h, 0, free(1), done)
-	if handle := pass(t, h, 0, 0, 0, 0, 10, 7); handle != 17 {
-		t.Fatalf("the handle is %d, want 17", handle)
-	}
-	wantReply(t, "P8", h, 0, "\x02\x00\x11", "\x09")
-	wantReply(t, "P8", h, 0, "\x02\x00\x00", "\x00")
-	wantReply(t, "P8", h, 0, "\x09\x00\x11", "\x04")
-	wantReply(t, "P7", h, 0, "\x01\x00\x20", "\x00\x00\x10")
-	wantBytes(t, "P7", h, 0, 16, strings.Repeat("\x00", 32))
 }

@@ -1,0 +1,29 @@
+package house
+
+import "tenure/api"
+
+// derive lays a part of what lies at a place, with no right that it has not, into the tenant's next slot (P11).
+func (h *House) derive(tenant, place, off, length, rights int) (string, api.Errno) {
+	x := h.slots[place].holding
+	if x.rights&api.MayShare == 0 || rights&x.rights != rights {
+		return "", api.ErrRights
+	}
+	if off+length > x.length {
+		return "", api.ErrRange
+	}
+	to, found := h.next(tenant)
+	if !found {
+		return "", api.ErrFull
+	}
+	h.lay(to, holding{from: place, root: x.root, first: x.first + off, length: length, rights: rights})
+	return twoBytes(h.handleAt(to)), api.OK
+}
+
+// drop gives up what lies at a place, and all below it (P13). A root is not given up: nobody could free the object then.
+func (h *House) drop(place int) api.Errno {
+	if h.slots[place].holding.from == none {
+		return api.ErrRoot
+	}
+	h.empty(place)
+	return api.OK
+}
