@@ -46,6 +46,9 @@ func write(handle, off int, data string) string {
 func derive(handle, off, length, rights int) string {
 	return "\x05" + two(handle) + two(off) + two(length) + string([]byte{byte(rights)})
 }
+func grant(handle, tenant int) string {
+	return "\x06" + two(handle) + string([]byte{byte(tenant)})
+}
 func revoke(handle int) string { return "\x07" + two(handle) }
 func drop(handle int) string   { return "\x08" + two(handle) }
 func info(handle int) string   { return "\x09" + two(handle) }
@@ -53,6 +56,7 @@ func info(handle int) string   { return "\x09" + two(handle) }
 const (
 	done      = "\x00"
 	errForm   = "\x01"
+	errTenant = "\x03"
 	errStale  = "\x04"
 	errRights = "\x05"
 	errRange  = "\x06"
@@ -162,7 +166,7 @@ func TestTenantsThatAreNone(t *testing.T) {
 	for tenants := 1; tenants <= 4; tenants++ {
 		h := open(t, tenants, 2, 2)
 		for _, tenant := range append([]int{tenants, tenants + 1, 4, 5, 16, 64}, strange...) {
-			for _, request := range []string{"", "\x01", alloc(1), alloc(0), free(0), read(0, 0, 0), write(0, 0, "a"), derive(0, 0, 0, 0), revoke(0), drop(0), info(0), "\xff"} {
+			for _, request := range []string{"", "\x01", alloc(1), alloc(0), free(0), read(0, 0, 0), write(0, 0, "a"), derive(0, 0, 0, 0), grant(0, 0), grant(0, 255), revoke(0), drop(0), info(0), "\xff"} {
 				if s, e := h.Ask(tenant, request); s != "" || e != api.ErrTenant {
 					t.Fatalf("P6, P1: Ask(%d, % x) = % x, %d; want nothing and ErrTenant", tenant, request, s, e)
 				}
@@ -182,7 +186,7 @@ func TestBytesThatAreNoRequest(t *testing.T) {
 	h, empty := open(t, 1, 2, 4), open(t, 1, 2, 4)
 	wantReply(t, "P7", h, 0, alloc(10), done+two(0))
 	wrong := []string{"", "\x00", "\x0a\x00\x00", "\xff\x00\x00", write(0, 0, strings.Repeat("a", 65)), write(0, 9, strings.Repeat("a", 300))}
-	for _, right := range []string{alloc(1), free(0), read(0, 0, 1), derive(0, 0, 1, 7), "\x06\x00\x00\x00", revoke(0), drop(0), info(0)} {
+	for _, right := range []string{alloc(1), free(0), read(0, 0, 1), derive(0, 0, 1, 7), grant(0, 0), grant(0, 1), revoke(0), drop(0), info(0)} {
 		for n := range right {
 			wrong = append(wrong, right[:n])
 		}
@@ -209,7 +213,7 @@ func TestStaleHandleOfEveryRequest(t *testing.T) {
 			free(handle), info(handle), read(handle, 0, 1), read(handle, 0, 65), read(handle, 65535, 65535),
 			write(handle, 0, ""), write(handle, 0, "a"), write(handle, 65535, "a"),
 			derive(handle, 0, 1, 7), derive(handle, 0, 11, 7), derive(handle, 0, 1, 8), derive(handle, 65535, 65535, 255),
-			"\x06" + two(handle) + "\x00", "\x06" + two(handle) + "\x09", revoke(handle), drop(handle),
+			grant(handle, 0), grant(handle, 1), grant(handle, 2), grant(handle, 255), revoke(handle), drop(handle),
 		} {
 			wantReply(t, "P6", h, 0, request, errStale)
 		}
@@ -347,7 +351,7 @@ func TestFreedHandleIsStale(t *testing.T) {
 		wantReply(t, "P7", h, tenant, alloc(8), done+two(0))
 		fill(t, h, tenant, 0, "01234567")
 	}
-	requests := []string{free(0), read(0, 0, 0), read(0, 0, 8), write(0, 0, ""), write(0, 0, "a"), info(0)}
+	requests := []string{free(0), read(0, 0, 0), read(0, 0, 8), write(0, 0, ""), write(0, 0, "a"), grant(0, 0), grant(0, 1), info(0)}
 	wantReply(t, "P8", h, 0, free(0), done)
 	for _, request := range requests {
 		wantReply(t, "P8", h, 0, request, errStale)

@@ -153,6 +153,16 @@ func (t *modelTenant) derive(x *hold, off, length, rights int) string {
 	return t.lay(&hold{from: x, cells: x.cells[off : off+length], rights: rights})
 }
 
+func (m *model) grant(x *hold, to int) string {
+	switch {
+	case x.rights < 4:
+		return errRights
+	case to >= len(m.tenants):
+		return errTenant
+	}
+	return m.tenants[to].lay(&hold{from: x, cells: x.cells, rights: x.rights})
+}
+
 func twoAt(s string, at int) int { return int(s[at])<<8 | int(s[at+1]) }
 
 func (m *model) ask(tenant int, s string) string {
@@ -177,7 +187,7 @@ func (m *model) ask(tenant int, s string) string {
 	case 5:
 		return t.derive(x, twoAt(s, 3), twoAt(s, 5), int(s[7]))
 	case 6:
-		return errForm // Grant is not served yet, and changes nothing.
+		return m.grant(x, int(s[3]))
 	case 7:
 		return m.empty(x, false)
 	case 9:
@@ -196,26 +206,9 @@ type pair struct {
 
 func (p pair) check(t *testing.T, tenant int, request string) {
 	t.Helper()
-	wantReply(t, "P6 to P11, P13, P14", p.h, tenant, request, p.m.ask(tenant, request))
+	wantReply(t, "P6 to P14", p.h, tenant, request, p.m.ask(tenant, request))
 	for i, x := range p.m.tenants {
 		wantView(t, p.h, i, x.view().Slots, x.view().Chunks)
-	}
-}
-
-// pass gives on what a tenant holds, without a request: so that what is below a slot lies with other tenants too.
-func (p pair) pass(t *testing.T, r *rand.Rand) {
-	t.Helper()
-	tenant, to := r.Intn(len(p.m.tenants)), r.Intn(len(p.m.tenants))
-	number := r.Intn(len(p.m.tenants[tenant].last))
-	x := p.m.tenants[tenant].held[number]
-	if x == nil {
-		return
-	}
-	handle := 16*p.m.tenants[tenant].last[number] + number
-	passed, laid := p.h.Pass(tenant, handle, to, 0, len(x.cells), x.rights)
-	want := p.m.tenants[to].lay(&hold{from: x, cells: x.cells, rights: x.rights})
-	if laid != (want != errFull) || laid && want != done+two(passed) {
-		t.Fatalf("%d of tenant %d was passed to %d: %d, %v; want % x", handle, tenant, to, passed, laid, want)
 	}
 }
 
@@ -268,7 +261,27 @@ func anyBytes(r *rand.Rand, n int) string {
 	return string(b)
 }
 
-// anyDerive is mostly one that is granted, or one just beside it.
+// anyStretch is mostly one of what is held by a handle, or one just beside it.
+func anyStretch(r *rand.Rand, t *modelTenant, handle int) (off, length int) {
+	x := t.held[handle%16]
+	if x == nil || r.Intn(4) == 0 {
+		return anyNumber(r), anyNumber(r)
+	}
+	off = r.Intn(len(x.cells) + 1)
+	return off, r.Intn(len(x.cells) - off + 2)
+}
+
+func anyRead(r *rand.Rand, t *modelTenant, handle int) string {
+	off, length := anyStretch(r, t, handle)
+	return read(handle, off, length)
+}
+
+func anyWrite(r *rand.Rand, t *modelTenant, handle int) string {
+	off, length := anyStretch(r, t, handle)
+	return write(handle, off, anyBytes(r, length%67))
+}
+
+// anyDerive is mostly one that is served, or one just beside it.
 func anyDerive(r *rand.Rand, t *modelTenant, handle int) string {
 	x := t.held[handle%16]
 	if x == nil || r.Intn(8) == 0 {
@@ -286,17 +299,25 @@ func anyDerive(r *rand.Rand, t *modelTenant, handle int) string {
 	return derive(handle, off, length, rights)
 }
 
+// anyGrant is mostly one to a tenant that there may be.
+func anyGrant(r *rand.Rand, handle int) string {
+	if r.Intn(8) == 0 {
+		return grant(handle, r.Intn(256))
+	}
+	return grant(handle, r.Intn(5))
+}
+
 func anyRequest(r *rand.Rand, t *modelTenant) string {
 	handle := anyHandle(r, t)
-	switch r.Intn(24) {
+	switch r.Intn(28) {
 	case 0, 1, 2, 3:
 		return alloc(anyNumber(r))
 	case 4:
 		return free(handle)
 	case 5, 6, 7:
-		return read(handle, anyNumber(r), anyNumber(r))
+		return anyRead(r, t, handle)
 	case 8, 9, 10:
-		return write(handle, anyNumber(r), anyBytes(r, r.Intn(67)))
+		return anyWrite(r, t, handle)
 	case 11, 12, 13, 14, 15, 16:
 		return anyDerive(r, t, handle)
 	case 17, 18:
@@ -309,11 +330,13 @@ func anyRequest(r *rand.Rand, t *modelTenant) string {
 		return anyBytes(r, r.Intn(80))
 	case 22:
 		return string([]byte{byte(r.Intn(11))}) + anyBytes(r, r.Intn(9))
+	case 23, 24, 25, 26:
+		return anyGrant(r, handle)
 	}
 	return string([]byte{byte(5 + r.Intn(4))}) + two(handle) + anyBytes(r, r.Intn(6))
 }
 
-// P1, P2, P6 to P11, P13 to P15: whatever is asked, in any order, of several houses in turn, of which none shows in another.
+// P1, P2, P6 to P15: whatever is asked, in any order, of several houses in turn, of which none shows in another.
 func TestAnyRequestsInAnyOrder(t *testing.T) {
 	r := rand.New(rand.NewSource(3))
 	for range 300 {
@@ -326,9 +349,6 @@ func TestAnyRequestsInAnyOrder(t *testing.T) {
 			p := houses[r.Intn(3)]
 			tenant := r.Intn(len(p.m.tenants))
 			p.check(t, tenant, anyRequest(r, p.m.tenants[tenant]))
-			if r.Intn(12) == 0 {
-				p.pass(t, r)
-			}
 		}
 		for _, p := range houses {
 			p.checkAll(t)
@@ -385,14 +405,19 @@ func TestHousesDoNotTouch(t *testing.T) {
 	second.check(t, 0, read(0, 0, 64))
 	second.check(t, 0, write(0, 0, pattern(7, 64)))
 	first.check(t, 0, free(2))
+	first.check(t, 0, grant(1, 1))
 	first.check(t, 0, derive(0, 4, 8, 7))
 	second.check(t, 0, derive(0, 8, 16, 7))
 	second.check(t, 0, derive(1, 0, 8, 1))
+	second.check(t, 0, grant(0, 1))
+	second.check(t, 0, grant(0, 1))
 	first.check(t, 0, revoke(0))
 	first.check(t, 0, drop(1))
 	first.checkAll(t)
 	second.checkAll(t)
 	second.check(t, 0, drop(1))
+	first.check(t, 0, grant(0, 1))
+	second.check(t, 0, free(0))
 	first.checkAll(t)
 	second.checkAll(t)
 }

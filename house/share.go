@@ -11,12 +11,30 @@ func (h *House) derive(tenant, place, off, length, rights int) (string, api.Errn
 	if off+length > x.length {
 		return "", api.ErrRange
 	}
-	to, found := h.next(tenant)
+	return h.give(tenant, holding{from: place, root: x.root, first: x.first + off, length: length, rights: rights})
+}
+
+// grant lays the same as lies at a place into the next slot of a tenant, who may be the one that asks (P12).
+func (h *House) grant(tenant, place int) (string, api.Errno) {
+	x := h.slots[place].holding
+	if x.rights&api.MayShare == 0 {
+		return "", api.ErrRights
+	}
+	if !h.has(tenant) {
+		return "", api.ErrTenant
+	}
+	x.from = place
+	return h.give(tenant, x)
+}
+
+// give lays something into a tenant's next slot, and answers the handle by which this tenant holds it.
+func (h *House) give(tenant int, x holding) (string, api.Errno) {
+	place, found := h.next(tenant)
 	if !found {
 		return "", api.ErrFull
 	}
-	h.lay(to, holding{from: place, root: x.root, first: x.first + off, length: length, rights: rights})
-	return twoBytes(h.handleAt(to)), api.OK
+	h.lay(place, x)
+	return twoBytes(h.handleAt(place)), api.OK
 }
 
 // drop gives up what lies at a place, and all below it (P13). A root is not given up: nobody could free the object then.

@@ -4,11 +4,12 @@ import (
 	"strings"
 	"testing"
 
+	"tenure/api"
 	"tenure/house"
 )
 
-// Examples 3 to 6, from where 1 and 2 leave off; what example 4 asks for by Grant is passed without a request.
-func TestExamplesOfWhatIsDerived(t *testing.T) {
+// Examples 3 to 6, from where 1 and 2 leave off.
+func TestExamplesOfWhatIsShared(t *testing.T) {
 	h := open(t, 2, 3, 4)
 	wantReply(t, "P7", h, 0, "\x01\x00\x0a", "\x00\x00\x00")
 	wantReply(t, "P10", h, 0, "\x04\x00\x00\x00\x08ab", "\x00")
@@ -18,8 +19,9 @@ func TestExamplesOfWhatIsDerived(t *testing.T) {
 	wantReply(t, "P10", h, 0, "\x04\x00\x01\x00\x00z", "\x05")
 	wantReply(t, "P11", h, 0, "\x05\x00\x01\x00\x00\x00\x01\x02", "\x05")
 	wantReply(t, "P13", h, 0, "\x08\x00\x00", "\x09")
-	pass(t, h, 0, 1, 1, 0, 2, 5)
+	wantReply(t, "P12", h, 0, "\x06\x00\x01\x01", "\x00\x00\x00")
 	wantReply(t, "P9", h, 1, "\x03\x00\x00\x00\x00\x00\x02", "\x00ab")
+	wantReply(t, "P12", h, 0, "\x06\x00\x01\x02", "\x03")
 	wantView(t, h, 1, 1, 0)
 	wantReply(t, "P13", h, 0, "\x07\x00\x00", "\x00")
 	wantReply(t, "P13", h, 0, "\x03\x00\x01\x00\x00\x00\x01", "\x04")
@@ -331,7 +333,9 @@ func TestRevokeAndDropNeedNoRights(t *testing.T) {
 		h := open(t, 2, 3, 1)
 		wantReply(t, "P7", h, 0, alloc(8), done+two(0))
 		wantReply(t, "P11", h, 0, derive(0, 0, 0, rights), done+two(1))
-		pass(t, h, 0, 1, 1, 0, 0, rights)
+		if rights >= api.MayShare {
+			wantReply(t, "P12", h, 0, grant(1, 1), done+two(0))
+		}
 		wantReply(t, "P13", h, 0, revoke(1), done)
 		wantView(t, h, 0, 2, 1)
 		wantView(t, h, 1, 0, 0)
@@ -373,12 +377,12 @@ func TestRevokeAndDropAcrossTenants(t *testing.T) {
 		wantReply(t, "P7", h, 1, alloc(8), done+two(1))
 		wantReply(t, "P8", h, 1, free(0), done)
 		wantReply(t, "P7", h, 2, alloc(8), done+two(0))
-		root := pass(t, h, 1, 1, 2, 0, 8, 7)
+		root := give(t, h, 1, 1, 2)
 		wantReply(t, "P7", h, 0, alloc(8), done+two(0))
 		wantReply(t, "P11", h, 0, derive(0, 0, 8, 7), done+two(1))
-		first := pass(t, h, 0, 1, 2, 0, 8, 7)
-		second := pass(t, h, 2, first, 1, 0, 8, 7)
-		third := pass(t, h, 1, second, 0, 0, 8, 7)
+		first := give(t, h, 0, 1, 2)
+		second := give(t, h, 2, first, 1)
+		third := give(t, h, 1, second, 0)
 		wantReply(t, "P13", h, 0, request, done)
 		wantReply(t, "P13", h, 2, info(first), errStale)
 		wantReply(t, "P13", h, 1, info(second), errStale)
@@ -394,15 +398,15 @@ func TestRevokeAndDropAcrossTenants(t *testing.T) {
 	}
 }
 
-// P13: whom something was passed to, gives it up for itself and those below alone.
-func TestDropOfWhatWasPassed(t *testing.T) {
+// P13: whom something was granted to, gives it up for itself and those below alone.
+func TestDropOfWhatWasGranted(t *testing.T) {
 	h := open(t, 2, 3, 1)
 	wantReply(t, "P7", h, 0, alloc(8), done+two(0))
 	wantReply(t, "P11", h, 0, derive(0, 0, 8, 7), done+two(1))
-	passed := pass(t, h, 0, 1, 1, 0, 8, 7)
-	wantReply(t, "P11", h, 1, derive(passed, 0, 4, 7), done+two(1))
-	wantReply(t, "P8", h, 1, free(passed), errRoot)
-	wantReply(t, "P13", h, 1, drop(passed), done)
+	granted := give(t, h, 0, 1, 1)
+	wantReply(t, "P11", h, 1, derive(granted, 0, 4, 7), done+two(1))
+	wantReply(t, "P8", h, 1, free(granted), errRoot)
+	wantReply(t, "P13", h, 1, drop(granted), done)
 	wantView(t, h, 1, 0, 0)
 	wantView(t, h, 0, 2, 1)
 	wantReply(t, "P13", h, 0, info(1), done+two(8)+allRights)

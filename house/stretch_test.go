@@ -10,14 +10,14 @@ import (
 
 // What P8, P9, P10 and P14 say of stretches, of rights and of what lies below a slot.
 
-// pass stands for a grant where something has to lie with another tenant.
-func pass(t *testing.T, h *house.House, tenant, handle, to, off, length, rights int) int {
+// give grants what a tenant holds by a handle to a tenant, and answers the handle by which that one holds it.
+func give(t *testing.T, h *house.House, tenant, handle, to int) int {
 	t.Helper()
-	passed, laid := h.Pass(tenant, handle, to, off, length, rights)
-	if !laid {
-		t.Fatalf("what tenant %d holds by %d was not laid into a slot of tenant %d", tenant, handle, to)
+	reply, e := h.Ask(tenant, grant(handle, to))
+	if len(reply) != 3 || reply[:1] != done || e != api.OK {
+		t.Fatalf("P12: Ask(%d, % x) = % x, %d; want a handle", tenant, grant(handle, to), reply, e)
 	}
-	return passed
+	return int(reply[1])<<8 | int(reply[2])
 }
 
 // By the handle 1 four bytes are held out of the midst of ten, with every sum of rights.
@@ -79,7 +79,7 @@ func TestFreeOfWhatIsNoRoot(t *testing.T) {
 	h := open(t, 2, 3, 4)
 	wantReply(t, "P7", h, 0, alloc(10), done+two(0))
 	wantReply(t, "P11", h, 0, derive(0, 0, 10, 7), done+two(1))
-	granted := pass(t, h, 0, 1, 1, 0, 10, 7)
+	granted := give(t, h, 0, 1, 1)
 	wantReply(t, "P8", h, 0, free(1), errRoot)
 	wantReply(t, "P8", h, 1, free(granted), errRoot)
 	wantView(t, h, 0, 2, 2)
@@ -97,13 +97,13 @@ func TestFreeEmptiesAllBelow(t *testing.T) {
 	wantReply(t, "P7", h, 0, alloc(8), done+two(0))
 	wantReply(t, "P7", h, 0, alloc(8), done+two(1))
 	wantReply(t, "P7", h, 1, alloc(8), done+two(0))
-	kept := pass(t, h, 0, 1, 2, 0, 8, 7)
-	child := pass(t, h, 0, 0, 2, 0, 8, 7)
-	grandchild := pass(t, h, 2, child, 1, 1, 4, 5)
-	pass(t, h, 1, grandchild, 0, 1, 2, 1)
-	pass(t, h, 2, child, 2, 0, 0, 0)
-	pass(t, h, 1, 0, 0, 0, 8, 7)
-	pass(t, h, 2, kept, 2, 0, 8, 7)
+	kept := give(t, h, 0, 1, 2)
+	child := give(t, h, 0, 0, 2)
+	wantReply(t, "P11", h, 2, derive(child, 1, 4, 5), done+two(2))
+	grandchild := give(t, h, 2, 2, 1)
+	give(t, h, 1, grandchild, 0)
+	give(t, h, 1, 0, 0)
+	give(t, h, 2, kept, 2)
 	wantView(t, h, 0, 4, 2)
 	wantView(t, h, 1, 2, 1)
 	wantView(t, h, 2, 4, 0)
@@ -127,14 +127,18 @@ func TestFreeEmptiesTheDeepestRow(t *testing.T) {
 	wantReply(t, "P7", h, 3, alloc(256), done+two(0))
 	holder, handle := 3, 0
 	for i := 1; i < 64; i++ {
-		to := 3 - i/16
-		handle = pass(t, h, holder, handle, to, 1, 256-i, 7)
-		holder = to
+		if i%16 == 0 {
+			handle = give(t, h, holder, handle, holder-1)
+			holder--
+			continue
+		}
+		wantReply(t, "P11", h, holder, derive(handle, 1, 256-i+i/16, 7), done+two(i%16))
+		handle = i % 16
 	}
-	wantReply(t, "P14", h, 0, info(15), done+two(193)+allRights)
+	wantReply(t, "P14", h, 0, info(15), done+two(196)+allRights)
 	wantReply(t, "P10", h, 0, write(15, 0, "z"), done)
-	wantReply(t, "P9", h, 3, read(0, 62, 3), done+"\x00z\x00")
-	wantReply(t, "P9", h, 1, read(0, 29, 3), done+"\x00\x00z")
+	wantReply(t, "P9", h, 3, read(0, 59, 3), done+"\x00z\x00")
+	wantReply(t, "P9", h, 1, read(0, 28, 3), done+"\x00\x00z")
 	wantReply(t, "P8", h, 3, free(0), done)
 	for tenant := range 4 {
 		wantView(t, h, tenant, 0, 0)
